@@ -27,24 +27,6 @@ func calls(v, x api.Value, steps []string) []api.Value {
 	return out
 }
 
-// spoil overwrites all the memory that a value has, with the room behind its ends.
-func spoil(v api.Value) {
-	for i, x := range v.List {
-		spoil(x)
-		v.List[i] = api.Value{Kind: 99}
-	}
-	for i, p := range v.Map {
-		spoil(p.Value)
-		v.Map[i] = pair("spoiled", api.Value{Kind: 99})
-	}
-	for l, i := v.List[:cap(v.List)], len(v.List); i < len(l); i++ {
-		l[i] = api.Value{Kind: 98}
-	}
-	for l, i := v.Map[:cap(v.Map)], len(v.Map); i < len(l); i++ {
-		l[i] = pair("room", api.Value{Kind: 98})
-	}
-}
-
 func TestAnythingIsTakenAndLeftAsItIs(t *testing.T) {
 	l := slices.Concat(sample.Faulty(), sample.Plain(), values()[390:])
 	hard := append(paths(), []string{""}, []string{"b", "a"}, []string{"\xff", "", "a\tb"}, []string{"a", "", "b"})
@@ -54,7 +36,7 @@ func TestAnythingIsTakenAndLeftAsItIs(t *testing.T) {
 			steps = slices.Clip(steps)
 			was := dump([]any{v, x, steps})
 			for _, got := range calls(v, x, steps) {
-				spoil(got)
+				sample.Spoil(got)
 			}
 			path.Print(steps...)
 			path.Parse(path.Print(steps...))
@@ -71,8 +53,8 @@ func TestWhatIsHandedInIsNotKept(t *testing.T) {
 	v := tree.Map(pair("a", tree.Map(pair("b", tree.List(one(2))), pair("c", tree.List(one(3))))))
 	answers, leaves := calls(v, x, steps), path.Leaves(v)
 	was := dump(answers) + dump(leaves)
-	spoil(v)
-	spoil(x)
+	sample.Spoil(v)
+	sample.Spoil(x)
 	steps[0], steps[1] = "y", "z"
 	if now := dump(answers) + dump(leaves); now != was {
 		t.Errorf("was %s, is %s", was, now)

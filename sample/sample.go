@@ -1,4 +1,4 @@
-// Package sample has the values that tests try the layers' calls with. They are written out, so that they hang on no call that is tried.
+// Package sample has the values that tests try the layers' calls with, and shows what memory these share. They are written out, so that they hang on no call that is tried.
 package sample
 
 import (

@@ -36,7 +36,7 @@ func TestAnyValuesAreTakenAndLeftAsTheyAre(t *testing.T) {
 			was := dump([]api.Value{a, b})
 			for _, key := range []string{"", "a", "b", "\xff"} {
 				for _, v := range calls(a, b, key) {
-					spoil(v)
+					sample.Spoil(v)
 				}
 			}
 			if now := dump([]api.Value{a, b}); now != was {
@@ -61,29 +61,9 @@ func TestDeepValuesAreTaken(t *testing.T) {
 func TestNoListOfAnAnswerIsSharedWithAnother(t *testing.T) {
 	v := rawMap(pair("a", rawList(one(1))), pair("b", one(2)))
 	for i, got := range calls(v, v, "a") {
-		seen := map[any]bool{}
-		walk(got, func(x any) {
-			if seen[x] {
-				t.Errorf("answer %d has one list twice", i)
-			}
-			seen[x] = true
-		})
-	}
-}
-
-// walk tells where each list that isn't empty begins.
-func walk(v api.Value, f func(any)) {
-	if len(v.List) > 0 {
-		f(&v.List[0])
-	}
-	for _, x := range v.List {
-		walk(x, f)
-	}
-	if len(v.Map) > 0 {
-		f(&v.Map[0])
-	}
-	for _, p := range v.Map {
-		walk(p.Value, f)
+		if !sample.Apart(got) {
+			t.Errorf("answer %d has one list twice", i)
+		}
 	}
 }
 
@@ -96,11 +76,11 @@ func TestTheRoomBehindIsLeftAsItIs(t *testing.T) {
 	made := tree.Map(m[:3]...)
 	short := rawMap(sorted[:2]...)
 	for _, key := range []string{"0", "a", "b", "bb", "z"} {
-		spoil(tree.Put(short, key, one(9)))
-		spoil(tree.Drop(short, key))
+		sample.Spoil(tree.Put(short, key, one(9)))
+		sample.Spoil(tree.Drop(short, key))
 	}
-	spoil(list)
-	spoil(made)
+	sample.Spoil(list)
+	sample.Spoil(made)
 	if now := dump(l) + dump(m) + dump(sorted); now != was {
 		t.Errorf("was %s, is %s", was, now)
 	}

@@ -69,7 +69,7 @@ func TestClone(t *testing.T) {
 		before := dump(v)
 		c := tree.Clone(v)
 		want(t, "Clone", c, v)
-		spoil(c)
+		sample.Spoil(c)
 		want(t, "what was cloned, with the clone spoiled", v, verbatim(before))
 	}
 }
@@ -78,26 +78,6 @@ func TestClone(t *testing.T) {
 type verbatim string
 
 func (s verbatim) Format(f fmt.State, _ rune) { f.Write([]byte(s)) }
-
-// spoil overwrites all the memory that a value has, with the room behind its ends.
-func spoil(v api.Value) {
-	for i, x := range v.List {
-		spoil(x)
-		v.List[i] = api.Value{Kind: 99}
-	}
-	for i, p := range v.Map {
-		spoil(p.Value)
-		v.Map[i] = pair("spoiled", api.Value{Kind: 99})
-	}
-	fill(v.List[len(v.List):cap(v.List)], api.Value{Kind: 98})
-	fill(v.Map[len(v.Map):cap(v.Map)], pair("room", api.Value{Kind: 98}))
-}
-
-func fill[T any](l []T, x T) {
-	for i := range l {
-		l[i] = x
-	}
-}
 
 func TestSizeAndDepth(t *testing.T) {
 	junk := api.Value{Kind: api.Int, Str: "x", List: []api.Value{one(1), one(2)}, Map: []api.Pair{pair("a", sample.Nest(3, one(1)))}}
