@@ -1,4 +1,4 @@
-// Package sample has the values that tests try the layers' calls with, and shows what memory these share. They are written out, so that they hang on no call that is tried.
+// Package sample has the values and texts that tests try the layers' calls with, and shows what memory these share. They are written out, so that they hang on no call that is tried.
 package sample
 
 import (
@@ -62,6 +62,17 @@ func Faulty() []api.Value {
 		list(out...),
 	)
 	return out
+}
+
+// Texts are all texts of so many of these letters, or fewer.
+func Texts(most int, letters string) []string {
+	l := []string{""}
+	for from := 0; len(l[from]) < most; from++ {
+		for i := range len(letters) {
+			l = append(l, l[from]+letters[i:i+1])
+		}
+	}
+	return l
 }
 
 // Nest is a value that stands in so many others, lists and maps by turns.

@@ -5,19 +5,9 @@ import (
 	"testing"
 
 	"mizzen/api"
+	"mizzen/sample"
 	"mizzen/scalar"
 )
-
-// texts are all texts of so many of these letters, or fewer.
-func texts(most int, letters string) []string {
-	l := []string{""}
-	for from := 0; len(l[from]) < most; from++ {
-		for _, r := range letters {
-			l = append(l, l[from]+string(r))
-		}
-	}
-	return l
-}
 
 func TestQuote(t *testing.T) {
 	for _, c := range []struct{ s, quoted string }{
@@ -124,7 +114,7 @@ func TestUnquoteOfNoQuotes(t *testing.T) {
 
 func TestWhatIsQuotedIsReadAsItWas(t *testing.T) {
 	letters := "an\"'\\\n\t"
-	for _, s := range texts(5, letters) {
+	for _, s := range sample.Texts(5, letters) {
 		for _, rest := range []string{"", "x", `"`, `'`, `\`, "\n", ` "x"`} {
 			text, behind, e := scalar.Unquote(scalar.Quote(s) + rest)
 			if text != s || behind != rest || e != api.OK {
@@ -132,7 +122,7 @@ func TestWhatIsQuotedIsReadAsItWas(t *testing.T) {
 			}
 		}
 	}
-	for _, s := range texts(4, letters) {
+	for _, s := range sample.Texts(4, letters) {
 		single := "'" + strings.ReplaceAll(s, "'", "''") + "'"
 		for _, rest := range []string{"", "x", `"`, `\`, "\n", ` 'x'`} {
 			text, behind, e := scalar.Unquote(single + rest)
@@ -147,10 +137,10 @@ func TestWhatIsQuotedIsReadAsItWas(t *testing.T) {
 func TestUnquoteReadsWhatQuoteWritesAlone(t *testing.T) {
 	letters := "n\"'\\\n"
 	quotes := map[string]string{}
-	for _, s := range texts(4, letters) {
+	for _, s := range sample.Texts(4, letters) {
 		quotes[scalar.Quote(s)] = s
 	}
-	for _, s := range texts(5, letters) {
+	for _, s := range sample.Texts(5, letters) {
 		s = `"` + s
 		var found string
 		for i := range len(s) + 1 {

@@ -222,7 +222,7 @@ func TestAWordThatIsPrintedIsReadAsItWas(t *testing.T) {
 	for _, c := range words() {
 		l = append(l, c.v)
 	}
-	for _, s := range texts(4, "1-~a. \"\n") {
+	for _, s := range sample.Texts(4, "1-~a. \"\n") {
 		l = append(l, tree.Str(s))
 	}
 	for i := range 64 {
@@ -243,7 +243,7 @@ func TestAWordThatIsPrintedIsReadAsItWas(t *testing.T) {
 }
 
 func TestNoBareTextIsReadAsSomethingElse(t *testing.T) {
-	for _, s := range slices.Concat(texts(4, "a-1~./"), []string{"null", "true", "false", "Null"}) {
+	for _, s := range slices.Concat(sample.Texts(4, "a-1~./"), []string{"null", "true", "false", "Null"}) {
 		if v, e := scalar.Parse(s); scalar.Bare(s) && (e != api.OK || !tree.Same(v, tree.Str(s))) {
 			t.Errorf("%q is read as %v, %d", s, v, e)
 		}
