@@ -100,7 +100,7 @@ func TestWrongActions(t *testing.T) {
 		"{{ range $x, $y, $z := .a }}{{ end }}", "{{ range , $x := .a }}{{ end }}", "{{ range $x, := .a }}{{ end }}", "{{ range $x := }}{{ end }}", "{{ range $x, $y := }}{{ end }}", "{{ range $x.a := .b }}{{ end }}", "{{ range $x, $y.a := .b }}{{ end }}", "{{ range := .a }}{{ end }}", "{{ range $x : = .a }}{{ end }}", "{{ range $x = .a }}{{ end }}", "{{ range $1 := .a }}{{ end }}",
 		"{{ $x := }}", "{{ $x = 1 }}", "{{ $x : = 1 }}", "{{ $x.a := 1 }}", "{{ $1 := 1 }}", "{{ $ := 1 }}", "{{ $ x := 1 }}", "{{ x := 1 }}", "{{ $x, $y := .a }}", "{{ $x := $y := 1 }}", "{{ $x := 1 2 }}", "{{ ($x := 1) }}", "{{ := 1 }}",
 		"{{ $" + strings.Repeat("x", api.MaxKey+1) + " := 1 }}", "{{ range $x, $" + strings.Repeat("x", api.MaxKey+1) + " := .a }}{{ end }}",
-		"{{ define }}{{ end }}", "{{ define a }}{{ end }}", "{{ define 'a' }}{{ end }}", "{{ define .a }}{{ end }}", `{{ define "a" .a }}{{ end }}`, `{{ define "a" "b" }}{{ end }}`, `{{ define ("a") }}{{ end }}`, `{{ define "a" | f }}{{ end }}`,
+		`{{ define "a" .a }}{{ end }}`, `{{ define "a" "b" }}{{ end }}`, `{{ define "a" | f }}{{ end }}`, `{{ define "a") }}{{ end }}`,
 		"{{ 'a' }}", "{{ #/* a */ }}", "{{ /* a */ .b }}",
 	} {
 		wantWrong(t, s, api.ErrToken)
@@ -118,6 +118,24 @@ func TestWrongActions(t *testing.T) {
 	}
 	for _, s := range []string{"{{ 9223372036854775808 }}", "{{ with -9223372036854775809 }}", "{{ $x := 9223372036854775808 }}", "{{ range $x, $y := 9223372036854775808 }}"} {
 		wantWrong(t, s, api.ErrOver)
+	}
+}
+
+func TestADefineWithoutAName(t *testing.T) {
+	for _, behind := range []string{
+		"", " ", " -", " .", ".a", " .a", " .a.b", "$a", " $a.b", " a", " true", " false", " nil", " if", " end", " define", " 0", "-1", " -1", " 9223372036854775807", " " + strings.Repeat("a", api.MaxKey),
+		"(", " )", `("a")`, " (a)", " ()", "|", ` | "a"`, ",", ":=", ` := "a"`, ` . "a"`, ` a "b"`, ` 1 "a"`, ` $a := "b"`, ` $a, $b := "c"`, " .a | f",
+	} {
+		wantWrong(t, "{{ define"+behind+"}}{{ end }}", api.ErrName)
+	}
+	for _, behind := range []string{"#", " #", " 'a'", " `a`", " /a", " :", " =", " $", " $1", " - 1", " é", ` \"a"`, " [", " &", " " + strings.Repeat("a", api.MaxKey+1)} {
+		wantWrong(t, "{{ define"+behind+" }}{{ end }}", api.ErrToken)
+	}
+	for _, s := range []string{"{{ define 9223372036854775808 }}{{ end }}", "{{ define -9223372036854775809 }}{{ end }}"} {
+		wantWrong(t, s, api.ErrOver)
+	}
+	for _, s := range []string{`{{ define "\x" }}{{ end }}`, "{{ define \"a\n\" }}{{ end }}", `{{ define "\x" # }}`} {
+		wantWrong(t, s, api.ErrQuote)
 	}
 }
 
@@ -147,6 +165,14 @@ func TestTheFirstWrongAction(t *testing.T) {
 		{`{{ if .a }}{{ else if # }}`, api.ErrToken},
 		{`{{ define "1" # }}`, api.ErrName},
 		{`{{ define "a" # }}`, api.ErrToken},
+		{`{{ define .a # }}`, api.ErrName},
+		{`{{ define .a "\x" }}`, api.ErrName},
+		{`{{ define 1 99999999999999999999 }}`, api.ErrName},
+		{`{{ define (# }}`, api.ErrName},
+		{`{{ define ` + strings.Repeat("(", api.MaxDepth+1) + ` }}`, api.ErrName},
+		{`{{ define .a }}{{ # }}`, api.ErrName},
+		{`{{ define .a }}`, api.ErrName},
+		{`{{ # }}{{ define .a }}`, api.ErrToken},
 		{`{{ define "1" }}{{ # }}`, api.ErrName},
 		{`{{ define "a" }}{{ # }}`, api.ErrToken},
 		{`{{ define "a" }}{{ define "1" }}`, api.ErrName},

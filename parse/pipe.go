@@ -207,10 +207,11 @@ func (r *reader) each() (key, name string) {
 
 // quotedName reads a name in quotes that nothing may stand behind.
 func (r *reader) quotedName() (string, api.Errno) {
-	if !r.ahead(`"`) {
-		return "", api.ErrToken
+	if r.over() || r.mark() {
+		return "", api.ErrName
 	}
-	x, e := r.text()
+	// Any operand is read here, as a word that is wrong in itself is told ahead of the name that it isn't.
+	x, e := r.operand(0)
 	switch {
 	case e != api.OK:
 		return "", e
@@ -220,6 +221,11 @@ func (r *reader) quotedName() (string, api.Errno) {
 		return "", api.ErrToken
 	}
 	return x.Value.Str, api.OK
+}
+
+// mark says whether a bracket, or a word that stands between others, stands there.
+func (r *reader) mark() bool {
+	return r.ahead("(") || r.ahead(")") || r.ahead("|") || r.ahead(",") || r.ahead(":=")
 }
 
 // steps reads the names with a dot ahead, as an expression's steps.
